@@ -1,0 +1,45 @@
+// Package linework: an editor of streams of lines: see DOC.md.
+package linework
+
+import (
+	"linework/api"
+	"linework/patterns"
+)
+
+// Editor edits a stream.
+type Editor struct{}
+
+// Pattern tells whether a text is a pattern, and if not, where (P3).
+func Pattern(pattern string) (api.Errno, int) {
+	if len(pattern) > api.MaxPattern {
+		return api.ErrLong, 0
+	}
+	if _, at, ok := patterns.Parse(pattern); !ok {
+		return api.ErrPattern, at
+	}
+	return api.OK, 0
+}
+
+// Match tells where a pattern matches a text first, and its groups (P4, P5).
+func Match(pattern, text string) ([]api.Span, api.Errno) { return nil, api.OK }
+
+// Check tells whether a text is a script, and if not, where (P6).
+func Check(script string) (api.Errno, int) { return api.OK, 0 }
+
+// Open begins to edit a stream (P7).
+func Open(script string, l api.Limits) (*Editor, api.Errno) { return nil, api.OK }
+
+// Feed gives a piece of the stream (P8).
+func (e *Editor) Feed(piece string) {}
+
+// End says that the stream is at its end (P8).
+func (e *Editor) End() {}
+
+// Take takes at most n bytes of what was made (P8).
+func (e *Editor) Take(n int) string { return "" }
+
+// Ready tells how many bytes can be taken (P8).
+func (e *Editor) Ready() int { return 0 }
+
+// State tells how it stands (P8).
+func (e *Editor) State() int { return 0 }
