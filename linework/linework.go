@@ -3,6 +3,7 @@ package linework
 
 import (
 	"linework/api"
+	"linework/matches"
 	"linework/patterns"
 )
 
@@ -21,7 +22,16 @@ func Pattern(pattern string) (api.Errno, int) {
 }
 
 // Match tells where a pattern matches a text first, and its groups (P4, P5).
-func Match(pattern, text string) ([]api.Span, api.Errno) { return nil, api.OK }
+func Match(pattern, text string) ([]api.Span, api.Errno) {
+	if len(pattern) > api.MaxPattern || len(text) > api.MaxSubject {
+		return nil, api.ErrLong
+	}
+	tree, _, ok := patterns.Parse(pattern)
+	if !ok {
+		return nil, api.ErrPattern
+	}
+	return matches.Look(tree, text).First(0), api.OK
+}
 
 // Check tells whether a text is a script, and if not, where (P6).
 func Check(script string) (api.Errno, int) { return api.OK, 0 }
