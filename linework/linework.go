@@ -5,6 +5,7 @@ import (
 	"linework/api"
 	"linework/matches"
 	"linework/patterns"
+	"linework/scripts"
 )
 
 // Editor edits a stream.
@@ -34,7 +35,10 @@ func Match(pattern, text string) ([]api.Span, api.Errno) {
 }
 
 // Check tells whether a text is a script, and if not, where (P6).
-func Check(script string) (api.Errno, int) { return api.OK, 0 }
+func Check(script string) (api.Errno, int) {
+	_, errno, at := scripts.Read(script)
+	return errno, at
+}
 
 // Open begins to edit a stream (P7).
 func Open(script string, l api.Limits) (*Editor, api.Errno) { return nil, api.OK }

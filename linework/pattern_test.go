@@ -253,7 +253,9 @@ func TestEveryCallEnds(t *testing.T) {
 		if spans, e := linework.Match(s, s); e != api.OK && spans != nil {
 			t.Errorf("P1: Match(%q) = %v beside %d", s, spans, e)
 		}
-		linework.Check(s)
+		if e, at := linework.Check(s); (e == api.OK || e == api.ErrLong) && at != 0 || at < 0 || at > len(s) {
+			t.Errorf("P1: Check(%q) = %d, %d", s, e, at)
+		}
 		for _, n := range []int{-1 << 63, -1, 0, 1, 80, 1<<63 - 1} {
 			if ed, e := linework.Open(s, api.Limits{Line: n, Space: n, Fuel: n}); e != api.OK && ed != nil {
 				t.Errorf("P1: Open(%q) = an editor beside %d", s, e)

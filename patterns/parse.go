@@ -1,9 +1,8 @@
 package patterns
 
 import (
-	"strings"
-
 	"linework/api"
+	"linework/texts"
 )
 
 const (
@@ -15,16 +14,12 @@ const (
 	escapable = "\\.^$()[]*+?{}|/&-"
 	// highestEscaped is the highest byte that an escape can stand for.
 	highestEscaped = '}'
-	// ended is what peek tells behind the last byte.
-	ended = -1
 )
 
-// reader goes through a pattern once, from left to right. Each of its methods
-// that can fail leaves it at the first byte that cannot stand there: all that
-// forbids a byte is therefore asked before the reader steps over it.
+// reader reads a pattern. Each of its methods that can fail leaves its cursor
+// at the first byte that cannot stand there.
 type reader struct {
-	text   string
-	at     int
+	texts.Cursor
 	open   int // brackets open here
 	groups int // brackets opened so far
 	nodes  []Node
@@ -33,34 +28,12 @@ type reader struct {
 // Parse reads a pattern of any length. If it is none, it tells the place of the
 // first byte that cannot stand there, or the length.
 func Parse(text string) (Tree, int, bool) {
-	r := reader{text: text}
+	r := reader{Cursor: texts.Cursor{Text: text}}
 	root, ok := r.choice()
-	if !ok || r.at < len(text) {
-		return Tree{}, r.at, false
+	if !ok || r.At < len(text) {
+		return Tree{}, r.At, false
 	}
 	return Tree{Nodes: r.nodes, Root: root, Groups: r.groups}, 0, true
-}
-
-// peek is the byte that comes next, or ended.
-func (r *reader) peek() int {
-	if r.at == len(r.text) {
-		return ended
-	}
-	return int(r.text[r.at])
-}
-
-// accept steps over a byte, if it comes next.
-func (r *reader) accept(b byte) bool {
-	if r.peek() != int(b) {
-		return false
-	}
-	r.at++
-	return true
-}
-
-// nextIsIn tells whether one of these bytes comes next.
-func (r *reader) nextIsIn(these string) bool {
-	return r.at < len(r.text) && strings.IndexByte(these, r.text[r.at]) >= 0
 }
 
 // add puts a node into the tree and tells its place.
@@ -85,7 +58,7 @@ func (r *reader) choice() (int, bool) {
 			return 0, false
 		}
 		kids = append(kids, kid)
-		if !r.accept('|') {
+		if !r.Accept('|') {
 			return r.join(Choice, kids), true
 		}
 	}
@@ -106,7 +79,7 @@ func (r *reader) way() (int, bool) {
 }
 
 func (r *reader) startsPart() bool {
-	return r.peek() != ended && !r.nextIsIn(noStart)
+	return r.Peek() != texts.End && !r.NextIsIn(noStart)
 }
 
 func (r *reader) part() (int, bool) {
@@ -115,13 +88,13 @@ func (r *reader) part() (int, bool) {
 		return 0, false
 	}
 	switch {
-	case r.accept('*'):
+	case r.Accept('*'):
 		return r.repeat(kid, 0, Endless), true
-	case r.accept('+'):
+	case r.Accept('+'):
 		return r.repeat(kid, 1, Endless), true
-	case r.accept('?'):
+	case r.Accept('?'):
 		return r.repeat(kid, 0, 1), true
-	case r.accept('{'):
+	case r.Accept('{'):
 		return r.counted(kid)
 	}
 	return kid, true
@@ -138,12 +111,12 @@ func (r *reader) counted(kid int) (int, bool) {
 		return 0, false
 	}
 	most := least
-	if r.accept(',') {
+	if r.Accept(',') {
 		if most, ok = r.digit(least); !ok {
 			return 0, false
 		}
 	}
-	if !r.accept('}') {
+	if !r.Accept('}') {
 		return 0, false
 	}
 	return r.repeat(kid, least, most), true
@@ -151,11 +124,11 @@ func (r *reader) counted(kid int) (int, bool) {
 
 // digit reads a digit that is not below least.
 func (r *reader) digit(least int) (int, bool) {
-	c := r.peek()
+	c := r.Peek()
 	if c < '0'+least || c > '0'+api.MaxTimes {
 		return 0, false
 	}
-	r.at++
+	r.At++
 	return c - '0', true
 }
 
@@ -163,7 +136,7 @@ func (r *reader) one() (int, bool) {
 	if !r.startsPart() {
 		return 0, false
 	}
-	switch c := r.text[r.at]; c {
+	switch c := r.Text[r.At]; c {
 	case '^':
 		return r.sign(Node{Kind: Begin}), true
 	case '$':
@@ -187,7 +160,7 @@ func (r *reader) one() (int, bool) {
 
 // sign steps over the one byte that makes up a node.
 func (r *reader) sign(n Node) int {
-	r.at++
+	r.At++
 	return r.add(n)
 }
 
@@ -195,13 +168,13 @@ func (r *reader) group() (int, bool) {
 	if r.open == api.MaxDepth || r.groups == api.MaxGroups {
 		return 0, false
 	}
-	r.at++
+	r.At++
 	r.open++
 	r.groups++
 	// Taken now, because the brackets within count on.
 	number := r.groups
 	kid, ok := r.choice()
-	if !ok || !r.accept(')') {
+	if !ok || !r.Accept(')') {
 		return 0, false
 	}
 	r.open--
@@ -209,8 +182,8 @@ func (r *reader) group() (int, bool) {
 }
 
 func (r *reader) set() (int, bool) {
-	r.at++
-	others := r.accept('^')
+	r.At++
+	others := r.Accept('^')
 	var set Set
 	for {
 		low, high, ok := r.between()
@@ -218,7 +191,7 @@ func (r *reader) set() (int, bool) {
 			return 0, false
 		}
 		set = set.with(low, high)
-		if r.accept(']') {
+		if r.Accept(']') {
 			break
 		}
 	}
@@ -231,7 +204,7 @@ func (r *reader) set() (int, bool) {
 // between reads a range within a set, and tells its ends.
 func (r *reader) between() (low, high byte, ok bool) {
 	low, ok = r.inner(0)
-	if !ok || !r.accept('-') {
+	if !ok || !r.Accept('-') {
 		return low, low, ok
 	}
 	high, ok = r.inner(low)
@@ -240,17 +213,17 @@ func (r *reader) between() (low, high byte, ok bool) {
 
 // inner reads an end of a range, which may not be below least.
 func (r *reader) inner(least byte) (byte, bool) {
-	if r.peek() == ended || r.nextIsIn(noInner) {
+	if r.Peek() == texts.End || r.NextIsIn(noInner) {
 		return 0, false
 	}
-	c := r.text[r.at]
+	c := r.Text[r.At]
 	if c == '\\' {
 		return r.escape(least)
 	}
 	if c < least {
 		return 0, false
 	}
-	r.at++
+	r.At++
 	return c, true
 }
 
@@ -261,17 +234,17 @@ func (r *reader) escape(least byte) (byte, bool) {
 	if least > highestEscaped {
 		return 0, false
 	}
-	r.at++
-	if !r.nextIsIn("n" + escapable) {
+	r.At++
+	if !r.NextIsIn("n" + escapable) {
 		return 0, false
 	}
-	b := r.text[r.at]
+	b := r.Text[r.At]
 	if b == 'n' {
 		b = '\n'
 	}
 	if b < least {
 		return 0, false
 	}
-	r.at++
+	r.At++
 	return b, true
 }
