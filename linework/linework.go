@@ -8,9 +8,6 @@ import (
 	"linework/scripts"
 )
 
-// Editor edits a stream.
-type Editor struct{}
-
 // Pattern tells whether a text is a pattern, and if not, where (P3).
 func Pattern(pattern string) (api.Errno, int) {
 	if len(pattern) > api.MaxPattern {
@@ -41,19 +38,39 @@ func Check(script string) (api.Errno, int) {
 }
 
 // Open begins to edit a stream (P7).
-func Open(script string, l api.Limits) (*Editor, api.Errno) { return nil, api.OK }
+func Open(script string, l api.Limits) (*Editor, api.Errno) {
+	commands, errno, _ := scripts.Read(script)
+	if errno != api.OK {
+		return nil, errno
+	}
+	if !allowed(l) {
+		return nil, api.ErrLimits
+	}
+	return newEditor(commands, l), api.OK
+}
 
 // Feed gives a piece of the stream (P8).
-func (e *Editor) Feed(piece string) {}
+func (e *Editor) Feed(piece string) {
+	// Byte by byte, so that it cannot matter how the stream is cut.
+	for i := 0; i < len(piece) && e.takes(); i++ {
+		e.add(piece[i])
+		e.work()
+	}
+}
 
 // End says that the stream is at its end (P8).
-func (e *Editor) End() {}
+func (e *Editor) End() {
+	if e.takes() {
+		e.ended = true
+		e.work()
+	}
+}
 
 // Take takes at most n bytes of what was made (P8).
-func (e *Editor) Take(n int) string { return "" }
+func (e *Editor) Take(n int) string { return e.take(n) }
 
 // Ready tells how many bytes can be taken (P8).
-func (e *Editor) Ready() int { return 0 }
+func (e *Editor) Ready() int { return e.ready() }
 
 // State tells how it stands (P8).
-func (e *Editor) State() int { return 0 }
+func (e *Editor) State() int { return e.state }

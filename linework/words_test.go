@@ -136,9 +136,12 @@ func (w *words) give(s stretch) {
 	}
 }
 
-func (m *made) match(groups int, text string) []api.Span {
+func (m *made) match(groups int, text string) []api.Span { return m.matchFrom(0, groups, text) }
+
+// matchFrom is the first match that begins at a place or behind it.
+func (m *made) matchFrom(place, groups int, text string) []api.Span {
 	w := &words{text: text, known: map[stretch]bool{}}
-	for from := range len(text) + 1 {
+	for from := place; from <= len(text); from++ {
 		for to := len(text); to >= from; to-- {
 			if w.matches(stretch{m, 0, from, to}) {
 				w.got = []api.Span{{From: from, To: to}}
@@ -205,9 +208,9 @@ func (k *maker) one(depth int) *made {
 	case 1:
 		return &made{sign: "$"}
 	case 2:
-		return &made{sign: ".", holds: "abc"}
+		return &made{sign: ".", holds: "abc\n"}
 	case 3:
-		return &made{sign: "[^a]", holds: "bc"}
+		return &made{sign: "[^a]", holds: "bc\n"}
 	case 4:
 		return &made{sign: "b", holds: "b"}
 	case 5, 6, 7:

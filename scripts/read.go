@@ -209,5 +209,6 @@ func (r *reader) line() (string, bool) {
 	}
 	text, _, _ := strings.Cut(r.Text[r.At:], "\n")
 	r.At += len(text)
-	return text, true
+	// A copy, so that the commands do not keep what was handed in.
+	return strings.Clone(text), true
 }
